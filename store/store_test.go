@@ -463,6 +463,31 @@ func TestSecondWithoutMemory(t *testing.T) {
 	hits(t, s, 0, 1, 1)
 }
 
+// P18.4, P6: a log that was spoilt may tell another text under a ref, and its
+// right digest; what a ref's own digest is not of is not told.
+func TestSecondTellsAnotherText(t *testing.T) {
+	for i, text := range []string{"b", "", "ab"} {
+		d := dev.New(16, 16)
+		s := open(t, d, api.Policy{Second: 4}, nil, 1)
+		ref := put(t, s, (*Store).Put, "a", 1, slow(4))
+		other := put(t, s, (*Store).Put, "b", 1, slow(5))
+		cache := second.Open(d, 12, 4)
+		cache.Feed(ref, text)
+		cache.Feed(other, "b")
+		d.Flush()
+		s = open(t, d, api.Policy{Second: 4}, nil, 1)
+		get(t, s, ref, "a", api.OK)
+		hits(t, s, 0, 0, 1)
+		get(t, s, other, "b", api.OK)
+		hits(t, s, 0, 1, 1)
+		d.Spoil(slow(4), "harm")
+		get(t, s, ref, "", api.ErrLost)
+		if x, is := second.Open(d, 12, 4).Find(ref); !is || x != text {
+			t.Errorf("%d: %q", i, x)
+		}
+	}
+}
+
 // P18.3: memory holds as many as Arc says, and no Settle makes it forget any.
 func TestMemory(t *testing.T) {
 	for _, size := range []int{1, 2, 5, 64} {
